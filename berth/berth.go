@@ -2,7 +2,10 @@
 package berth
 
 import (
+	"sync"
+
 	"berth/api"
+	"berth/cluster"
 	"berth/command"
 )
 
@@ -19,14 +22,49 @@ func Render(c api.Command) string {
 	return line
 }
 
-// Cluster runs jobs.
-type Cluster struct{}
+// Cluster runs jobs. It may be asked from several sides at once.
+type Cluster struct {
+	lock   sync.Mutex
+	inside *cluster.Cluster
+}
 
 // New makes a cluster (P5).
-func New(c api.Config) (*Cluster, api.Errno) { return nil, api.OK }
+func New(c api.Config) (*Cluster, api.Errno) {
+	inside, err := cluster.New(c)
+	if err != nil {
+		return nil, errnoOf(err)
+	}
+	return &Cluster{inside: inside}, api.OK
+}
 
 // Do does what a command says (P6).
-func (c *Cluster) Do(x api.Command) api.Reply { return api.Reply{} }
+func (c *Cluster) Do(x api.Command) api.Reply {
+	c.lock.Lock()
+	defer c.lock.Unlock()
+	reply, err := c.do(x)
+	reply.Err = errnoOf(err)
+	return reply
+}
+
+func (c *Cluster) do(x api.Command) (api.Reply, error) {
+	if _, err := command.Write(x); err != nil {
+		return api.Reply{}, err
+	}
+	switch x.Kind {
+	case api.Submit:
+		return c.inside.Submit(x.A, x.B)
+	case api.Tick:
+		return c.inside.Tick(x.A)
+	case api.Stat:
+		return c.inside.Stat(x.A)
+	case api.Queue:
+		return c.inside.Queue(), nil
+	case api.Info:
+		return c.inside.Info(), nil
+	}
+	// Cancel and Done are still to be built.
+	return api.Reply{}, nil
+}
 
 // Line does what a line says (P13).
 func (c *Cluster) Line(line string) string { return "" }
