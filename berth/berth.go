@@ -53,17 +53,19 @@ func (c *Cluster) do(x api.Command) (api.Reply, error) {
 	switch x.Kind {
 	case api.Submit:
 		return c.inside.Submit(x.A, x.B)
+	case api.Cancel:
+		return c.inside.Cancel(x.A)
+	case api.Done:
+		return c.inside.Done(x.A)
 	case api.Tick:
 		return c.inside.Tick(x.A)
 	case api.Stat:
 		return c.inside.Stat(x.A)
 	case api.Queue:
 		return c.inside.Queue(), nil
-	case api.Info:
-		return c.inside.Info(), nil
 	}
-	// Cancel and Done are still to be built.
-	return api.Reply{}, nil
+	// There is no other kind that Write lets through.
+	return c.inside.Info(), nil
 }
 
 // Line does what a line says (P13).

@@ -20,6 +20,8 @@ func errnoOf(err error) api.Errno {
 		return api.ErrWall
 	case errors.Is(err, cluster.ErrFull):
 		return api.ErrFull
+	case errors.Is(err, cluster.ErrPhase):
+		return api.ErrPhase
 	case errors.Is(err, cluster.ErrTime):
 		return api.ErrTime
 	case errors.As(err, &job):

@@ -19,6 +19,7 @@ func TestErrnoOfSeesThroughWraps(t *testing.T) {
 		{cluster.ErrWidth, api.ErrWidth},
 		{cluster.ErrWall, api.ErrWall},
 		{cluster.ErrFull, api.ErrFull},
+		{cluster.ErrPhase, api.ErrPhase},
 		{cluster.ErrTime, api.ErrTime},
 		{&cluster.JobError{ID: 1}, api.ErrJob},
 	} {

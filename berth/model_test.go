@@ -32,6 +32,10 @@ func submit(width, wall int) api.Command { return api.Command{Kind: api.Submit, 
 
 func tick(by int) api.Command { return api.Command{Kind: api.Tick, A: by} }
 
+func cancel(id int) api.Command { return api.Command{Kind: api.Cancel, A: id} }
+
+func done(id int) api.Command { return api.Command{Kind: api.Done, A: id} }
+
 func stat(id int) api.Command { return api.Command{Kind: api.Stat, A: id} }
 
 var (
@@ -42,6 +46,13 @@ var (
 func started(id, time int) api.Event { return api.Event{Kind: api.Started, ID: id, Time: time} }
 
 func ended(id, time int) api.Event { return api.Event{Kind: api.Ended, ID: id, Time: time} }
+
+func moved(id, from, to int) api.Event {
+	return api.Event{Kind: api.Moved, ID: id, Time: from, To: to}
+}
+
+// tells is the answer that has nothing but events.
+func tells(events ...api.Event) api.Reply { return api.Reply{Events: events} }
 
 // waits is the answer to a job that doesn't start at once.
 func waits(id, promise int) api.Reply { return api.Reply{A: id, B: promise} }
@@ -71,6 +82,8 @@ func (m *model) do(x api.Command) api.Reply {
 	switch x.Kind {
 	case api.Submit:
 		return m.submit(x.A, x.B)
+	case api.Cancel, api.Done:
+		return m.endEarly(x)
 	case api.Tick:
 		return m.tick(x.A)
 	case api.Stat:
@@ -140,6 +153,49 @@ func (m *model) starts(events []api.Event) []api.Event {
 	return events
 }
 
+func (m *model) endEarly(x api.Command) api.Reply {
+	if x.A < 1 || x.A > len(m.jobs) {
+		return api.Reply{Err: api.ErrJob}
+	}
+	j := &m.jobs[x.A-1]
+	if !j.isLive() || x.Kind == api.Done && j.phase != api.Running {
+		return api.Reply{Err: api.ErrPhase}
+	}
+	if j.phase == api.Queued {
+		j.start = m.now
+	}
+	j.phase, j.end = api.Finished, m.now
+	if x.Kind == api.Cancel {
+		j.phase = api.Cancelled
+	}
+	return api.Reply{Events: m.starts(m.moves())}
+}
+
+func (m *model) moves() []api.Event {
+	var events []api.Event
+	for again := true; again; {
+		again = false
+		for i := range m.jobs {
+			j := &m.jobs[i]
+			if j.phase != api.Queued {
+				continue
+			}
+			from := j.start
+			to := m.now
+			j.phase = 0 // not in its own way
+			for to < from && !m.room(j.width, j.wall, to) {
+				to++
+			}
+			j.phase = api.Queued
+			if to < from {
+				j.start, j.end, again = to, to+j.wall, true
+				events = append(events, moved(i+1, from, to))
+			}
+		}
+	}
+	return events
+}
+
 func (m *model) tick(by int) api.Reply {
 	if by > m.config.End || m.now+by > m.config.End {
 		return api.Reply{Err: api.ErrTime}
@@ -180,27 +236,28 @@ func (m *model) info() api.Reply {
 
 // draw is a command that fits a cluster more or less: most are good ones, some just beside the bounds.
 func draw(r *rand.Rand, config api.Config, given int) api.Command {
-	switch r.Intn(12) {
-	case 0, 1, 2, 3:
+	switch r.Intn(18) {
+	case 0, 1, 2, 3, 4, 5:
 		return submit(1+r.Intn(config.Nodes), 1+r.Intn(config.Wall))
-	case 4:
+	case 6:
 		return submit(r.Intn(config.Nodes+3)-1, r.Intn(config.Wall+3)-1)
-	case 5, 6:
+	case 7, 8:
 		return tick(r.Intn(config.Wall + 2))
-	case 7:
-		return tick(r.Intn(config.End/4 + 2))
-	case 8:
-		return stat(r.Intn(given+3) - 1)
 	case 9:
+		return tick(r.Intn(config.End/4 + 2))
+	case 10, 11, 12: // the youngest ones are live as a rule
+		return api.Command{Kind: api.Cancel + r.Intn(2), A: max(1, given-r.Intn(12))}
+	case 13:
+		return api.Command{Kind: api.Cancel + r.Intn(2), A: r.Intn(given+3) - 1}
+	case 14:
+		return stat(r.Intn(given+3) - 1)
+	case 15:
 		return queue
-	case 10:
+	case 16:
 		return info
 	}
 	return api.Command{Kind: r.Intn(12) - 2, A: r.Intn(3) - 1, B: r.Intn(3) - 1}
 }
-
-// isBuilt leaves out what no answer is promised for yet.
-func isBuilt(x api.Command) bool { return x.Kind != api.Cancel && x.Kind != api.Done }
 
 func TestDrawnCommandsAreDoneAsTheDocumentSays(t *testing.T) {
 	r := rand.New(rand.NewSource(1))
@@ -210,9 +267,6 @@ func TestDrawnCommandsAreDoneAsTheDocumentSays(t *testing.T) {
 		c := fresh(t, config.Nodes, config.Jobs, config.Wall, config.End)
 		for range 100 {
 			x := draw(r, config, len(m.jobs))
-			if !isBuilt(x) {
-				continue
-			}
 			if got, want := c.Do(x), m.do(x); !reflect.DeepEqual(got, want) {
 				t.Fatalf("P6: %+v at %d: Do(%+v) = %+v, want %+v", config, m.now, x, got, want)
 			}
@@ -223,15 +277,14 @@ func TestDrawnCommandsAreDoneAsTheDocumentSays(t *testing.T) {
 func FuzzDo(f *testing.F) {
 	f.Add(uint8(4), uint8(5), []byte("\x01\x03\x0a\x01\x02\x05\x04\x09\x00\x05\x01\x00\x06\x00\x00\x07\x00\x00"))
 	f.Add(uint8(2), uint8(30), []byte("\x01\x01\x05\x01\x02\x0a\x01\x01\x06\x01\x01\x05\x04\x20\x00"))
+	f.Add(uint8(3), uint8(29), []byte("\x01\x01\x02\x01\x01\x06\x01\x03\x05\x01\x02\x01\x01\x01\x01\x01\x01\x01\x02\x02\x00\x04\x01\x00\x03\x01\x00\x06\x00\x00"))
 	f.Fuzz(func(t *testing.T, nodes, jobs uint8, script []byte) {
 		config := api.Config{Nodes: 1 + int(nodes)%8, Jobs: 1 + int(jobs)%api.MaxJobs, Wall: 20, End: 500}
 		m := model{config: config}
 		c := fresh(t, config.Nodes, config.Jobs, config.Wall, config.End)
 		for ; len(script) >= 3; script = script[3:] {
 			x := api.Command{Kind: int(script[0] % 9), A: int(script[1]), B: int(script[2])}
-			if isBuilt(x) {
-				does(t, "P6", c, x, m.do(x))
-			}
+			does(t, "P6", c, x, m.do(x))
 		}
 	})
 }

@@ -30,6 +30,9 @@ type seat struct {
 	id, width int
 }
 
+// noJob is an id that no job ever has.
+const noJob = 0
+
 // New makes a cluster (P5).
 func New(c api.Config) (*Cluster, error) {
 	if err := checkConfig(c); err != nil {
@@ -43,7 +46,7 @@ func (c *Cluster) Submit(width, wall int) (api.Reply, error) {
 	if err := c.checkJob(width, wall); err != nil {
 		return api.Reply{}, &CallError{Call: "submit", Err: err}
 	}
-	promise := c.plan().Earliest(width, wall, c.now)
+	promise := c.planWithout(noJob).Earliest(width, wall, c.now)
 	id := c.add(width, promise, promise+wall)
 	return api.Reply{A: id, B: promise, Events: c.happen(c.now)}, nil
 }
@@ -137,6 +140,11 @@ func (c *Cluster) start(id int) {
 
 func (c *Cluster) timeOut(id int) {
 	c.recordOf(id).phase = api.TimedOut
+	c.leave(id)
+}
+
+// leave takes a job from among the live ones, and so its reservation away.
+func (c *Cluster) leave(id int) {
 	c.live = slices.DeleteFunc(c.live, func(s seat) bool { return s.id == id })
 }
 
@@ -150,10 +158,14 @@ func (c *Cluster) find(id int) (*record, error) {
 // recordOf is for ids that are known to be jobs'.
 func (c *Cluster) recordOf(id int) *record { return &c.records[id-1] }
 
-// plan is what the live jobs have reserved.
-func (c *Cluster) plan() plan.Plan {
+// planWithout is what the live jobs but one have reserved: a job is never in
+// its own way.
+func (c *Cluster) planWithout(id int) plan.Plan {
 	p := plan.Plan{Nodes: c.config.Nodes}
 	for _, s := range c.live {
+		if s.id == id {
+			continue
+		}
 		r := c.recordOf(s.id)
 		p.Taken = append(p.Taken, plan.Reservation{Width: s.width, Start: r.start, End: r.end})
 	}

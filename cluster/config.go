@@ -17,7 +17,9 @@ func checkConfig(c api.Config) error {
 			return &ValueError{Name: v.name, Value: v.value, Err: ErrConfig}
 		}
 	}
-	// No reservation ends later than this, so that no time ever wraps.
+	// No reservation ends later than this, so that no time ever wraps: a
+	// promise is now or the end of another live job, and if that one goes
+	// early, the promise moves up.
 	if last := c.End + c.Jobs*c.Wall; last > api.MaxTime {
 		return &ValueError{Name: "end of the last job", Value: last, Err: ErrConfig}
 	}

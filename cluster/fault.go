@@ -12,6 +12,7 @@ var (
 	ErrWidth  = errors.New("more nodes than there are, or none")
 	ErrWall   = errors.New("longer than may be, or no time at all")
 	ErrFull   = errors.New("too many jobs are live")
+	ErrPhase  = errors.New("not in a phase for that")
 	ErrTime   = errors.New("behind the end of time")
 )
 

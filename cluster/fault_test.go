@@ -8,21 +8,26 @@ import (
 	"berth/api"
 )
 
-// full is a cluster with as many live jobs as may be.
+// full is a cluster with as many live jobs as may be: 1 runs, 2 is queued.
 func full(t *testing.T) *Cluster {
 	t.Helper()
-	c, err := New(api.Config{Nodes: 4, Jobs: 1, Wall: 100, End: 1000})
+	c, err := New(api.Config{Nodes: 4, Jobs: 2, Wall: 100, End: 1000})
 	if err != nil {
 		t.Fatal(err)
 	}
-	if _, err := c.Submit(1, 1); err != nil {
-		t.Fatal(err)
+	for range 2 {
+		if _, err := c.Submit(4, 1); err != nil {
+			t.Fatal(err)
+		}
 	}
 	return c
 }
 
 func TestRefusalsTellWhatTheyAreAbout(t *testing.T) {
-	c := full(t)
+	c, over := full(t), full(t)
+	if _, err := over.Done(1); err != nil {
+		t.Fatal(err)
+	}
 	for _, r := range []struct {
 		call   func() (api.Reply, error)
 		bottom error
@@ -30,8 +35,10 @@ func TestRefusalsTellWhatTheyAreAbout(t *testing.T) {
 	}{
 		{func() (api.Reply, error) { return c.Submit(5, 101) }, ErrWidth, "submit: width 5: more nodes than there are, or none"},
 		{func() (api.Reply, error) { return c.Submit(4, 101) }, ErrWall, "submit: wall 101: longer than may be, or no time at all"},
-		{func() (api.Reply, error) { return c.Submit(4, 100) }, ErrFull, "submit: live jobs 1: too many jobs are live"},
+		{func() (api.Reply, error) { return c.Submit(4, 100) }, ErrFull, "submit: live jobs 2: too many jobs are live"},
 		{func() (api.Reply, error) { return c.Tick(1001) }, ErrTime, "tick: by 1001: behind the end of time"},
+		{func() (api.Reply, error) { return c.Done(2) }, ErrPhase, "done: job 2: not in a phase for that"},
+		{func() (api.Reply, error) { return over.Cancel(1) }, ErrPhase, "cancel: job 1: not in a phase for that"},
 	} {
 		reply, err := r.call()
 		var value *ValueError
@@ -46,19 +53,21 @@ func TestRefusalsTellWhatTheyAreAbout(t *testing.T) {
 
 func TestIDsOfNoJobAreRefusedByTheirOwnError(t *testing.T) {
 	c := full(t)
-	for _, id := range []int{-1 << 63, -1, 0, 2, 1<<63 - 1} {
-		reply, err := c.Stat(id)
-		var call *CallError
-		var job *JobError
-		if !errors.As(err, &call) || call.Call != "stat" || !errors.As(err, &job) || job.ID != id {
-			t.Errorf("Stat(%d) is refused with %v", id, err)
+	for name, ask := range map[string]func(id int) (api.Reply, error){"stat": c.Stat, "cancel": c.Cancel, "done": c.Done} {
+		for _, id := range []int{-1 << 63, -1, 0, 3, 1<<63 - 1} {
+			reply, err := ask(id)
+			var call *CallError
+			var job *JobError
+			if !errors.As(err, &call) || call.Call != name || !errors.As(err, &job) || job.ID != id {
+				t.Errorf("%s of %d is refused with %v", name, id, err)
+			}
+			if !reflect.DeepEqual(reply, api.Reply{}) {
+				t.Errorf("%s of %d is refused, but answered %+v", name, id, reply)
+			}
 		}
-		if !reflect.DeepEqual(reply, api.Reply{}) {
-			t.Errorf("Stat(%d) is refused, but answered %+v", id, reply)
+		if _, err := ask(3); err.Error() != name+": no job 3" {
+			t.Errorf("%s of 3 is refused with %v", name, err)
 		}
-	}
-	if _, err := c.Stat(2); err.Error() != "stat: no job 2" {
-		t.Errorf("Stat(2) is refused with %v", err)
 	}
 }
 

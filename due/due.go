@@ -3,11 +3,12 @@ package due
 
 import (
 	"container/heap"
+	"slices"
 
 	"berth/api"
 )
 
-// Events are the events to come: Started and Ended ones.
+// Events are the events to come: Started and Ended ones, at most one a job.
 type Events struct {
 	heap byTime
 }
@@ -24,6 +25,14 @@ func (e *Events) Next(until int) (api.Event, bool) {
 	event := e.heap[0]
 	heap.Pop(&e.heap)
 	return event, true
+}
+
+// Remove takes out the event of a job, if there is one.
+func (e *Events) Remove(id int) {
+	i := slices.IndexFunc(e.heap, func(event api.Event) bool { return event.ID == id })
+	if i >= 0 {
+		heap.Remove(&e.heap, i)
+	}
 }
 
 type byTime []api.Event

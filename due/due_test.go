@@ -70,3 +70,40 @@ func TestNextOfNothing(t *testing.T) {
 		t.Errorf("Next(5) again = %+v, %t", event, ok)
 	}
 }
+
+// What is left stands in order still, wherever in the heap the removed ones stood.
+func TestRemoveTakesOutAJobsEvent(t *testing.T) {
+	r := rand.New(rand.NewSource(2))
+	for range 500 {
+		var e Events
+		var left []api.Event
+		for id := range 40 {
+			event := api.Event{Kind: api.Started + r.Intn(2), ID: id, Time: r.Intn(20)}
+			left = append(left, event)
+		}
+		r.Shuffle(len(left), func(i, j int) { left[i], left[j] = left[j], left[i] })
+		for _, event := range left {
+			e.Add(event)
+		}
+		for range r.Intn(41) {
+			e.Remove(left[0].ID)
+			left = left[1:]
+		}
+		slices.SortFunc(left, inOrder)
+		if got := takeAll(&e, 20); !slices.Equal(got, left) {
+			t.Fatalf("%v, want %v", got, left)
+		}
+	}
+}
+
+func TestRemoveOfNothing(t *testing.T) {
+	var e Events
+	e.Remove(1)
+	event := api.Event{Kind: api.Ended, ID: 2, Time: 5}
+	e.Add(event)
+	e.Remove(1)
+	e.Remove(5)
+	if got := takeAll(&e, 10); !slices.Equal(got, []api.Event{event}) {
+		t.Errorf("%v", got)
+	}
+}
