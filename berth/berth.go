@@ -4,6 +4,7 @@ package berth
 import (
 	"sync"
 
+	"berth/answer"
 	"berth/api"
 	"berth/cluster"
 	"berth/command"
@@ -69,4 +70,11 @@ func (c *Cluster) do(x api.Command) (api.Reply, error) {
 }
 
 // Line does what a line says (P13).
-func (c *Cluster) Line(line string) string { return "" }
+func (c *Cluster) Line(line string) string {
+	x, err := Parse(line)
+	if err != api.OK {
+		return answer.Write(x.Kind, api.Reply{Err: err})
+	}
+	// The lock is Do's: what it answers is new memory, and needs none.
+	return answer.Write(x.Kind, c.Do(x))
+}

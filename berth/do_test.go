@@ -212,8 +212,10 @@ func TestP2TwoClustersDoNotTouch(t *testing.T) {
 	}
 	for range 1000 {
 		i := r.Intn(len(configs))
-		x := draw(r, configs[i], len(models[i].jobs))
-		does(t, "P2", clusters[i], x, models[i].do(x))
+		c, m := clusters[i], models[i]
+		x := draw(r, configs[i], len(m.jobs))
+		does(t, "P2", c, x, m.do(x))
+		follows(t, "P2", c, m, drawLine(r, configs[i], len(m.jobs)))
 	}
 }
 

@@ -64,17 +64,21 @@ func TestParseReadsCommands(t *testing.T) {
 	}
 }
 
+// notCommands are lines that are no command, each for a reason of its own.
+var notCommands = []string{
+	"", " ", "  ", "\n", "\x00", "7", "1 2", "STOP 1", "stat 1", "Stat 1", "STA 1", "STATS 1", "STAT1", "JOB 1",
+	"STAT", "STAT ", "STAT  1", " STAT 1", "STAT 1 ", "STAT 1 2", "STAT\t1", "STAT\u00a01", "STAT 1\n", "STAT 1\r\n", "STAT 1\x00",
+	"STAT +1", "STAT -1", "STAT -0", "STAT 1.0", "STAT 1e1", "STAT 0x1", "STAT 1_0", "STAT a", "STAT /", "STAT :", "STAT ١", "STAT １", "STAT \xff",
+	"TICK 1000000000000000000", "TICK 0000000000000000000", "TICK 0000000000000000001",
+	"TICK 9223372036854775808", "TICK 18446744073709551615", "TICK 18446744073709551617",
+	"SUBMIT", "SUBMIT 1", "SUBMIT 1 ", "SUBMIT  1 1", "SUBMIT 1  1", "SUBMIT 1 1 ", "SUBMIT 1 1 1", "SUBMIT 1,1", "SUBMIT x 1", "SUBMIT 1 x",
+	"SUBMIT 1000000000000000000 1", "SUBMIT 1 1000000000000000000",
+	"CANCEL", "CANCEL ", "CANCEL  1", "CANCEL -1", "CANCEL 1 1", "cancel 1", "DONE", "DONE 1 ", "DONE +1", "DONE 1 1", "done 1",
+	"tick 1", "submit 1 1", "queue", "info", "QUEUE ", "QUEUE 0", "QUEUE 1", " QUEUE", "QUEUEINFO", "INFO 0", "INFO 1 2", "INFO\n",
+}
+
 func TestParseRefuses(t *testing.T) {
-	for _, line := range []string{
-		"", " ", "  ", "\n", "\x00", "7", "1 2", "STOP 1", "stat 1", "Stat 1", "STA 1", "STATS 1", "STAT1", "JOB 1",
-		"STAT", "STAT ", "STAT  1", " STAT 1", "STAT 1 ", "STAT 1 2", "STAT\t1", "STAT\u00a01", "STAT 1\n", "STAT 1\r\n", "STAT 1\x00",
-		"STAT +1", "STAT -1", "STAT -0", "STAT 1.0", "STAT 1e1", "STAT 0x1", "STAT 1_0", "STAT a", "STAT /", "STAT :", "STAT ١", "STAT １", "STAT \xff",
-		"TICK 1000000000000000000", "TICK 0000000000000000000", "TICK 0000000000000000001",
-		"TICK 9223372036854775808", "TICK 18446744073709551615", "TICK 18446744073709551617",
-		"SUBMIT", "SUBMIT 1", "SUBMIT 1 ", "SUBMIT  1 1", "SUBMIT 1  1", "SUBMIT 1 1 ", "SUBMIT 1 1 1", "SUBMIT 1,1", "SUBMIT x 1", "SUBMIT 1 x",
-		"SUBMIT 1000000000000000000 1", "SUBMIT 1 1000000000000000000",
-		"QUEUE ", "QUEUE 0", "QUEUE 1", " QUEUE", "QUEUEINFO", "INFO 0", "INFO 1 2", "INFO\n",
-	} {
+	for _, line := range notCommands {
 		if got, err := berth.Parse(line); got != (api.Command{}) || err != api.ErrArg {
 			t.Errorf("P3: Parse(%q) = %+v, %d, want it refused", line, got, err)
 		}
